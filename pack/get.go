@@ -141,7 +141,9 @@ func (r *reader) part() api.Part {
 
 // inner is a partition that has bytes of its own: it goes just to their end.
 func (r *reader) inner() api.Part {
-	in := reader{b: r.bytes(), e: r.e}
+	// a statement of its own: within one, Go may read r.e ahead of the call that finds the error
+	b := r.bytes()
+	in := reader{b: b, e: r.e}
 	p := in.part()
 	in.end()
 	r.e = in.e
